@@ -1,0 +1,1 @@
+"""Routeweb: routing that settles, in small networks."""

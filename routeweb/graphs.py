@@ -1,0 +1,122 @@
+"""Graphs of up to eight nodes, their paths, and the least of these by weights."""
+
+from routeweb.checks import are_numbers, is_number, is_tuple
+from routeweb.errors import BadGraph, BadNode, BadWeights, NotGraph
+from routeweb.walks import check_few, paths_to
+
+MOST_NODES = 8
+MOST_ARCS = 64
+MOST_WEIGHT = 100
+
+
+class Graph:
+    """The nodes 0 to size - 1, and arcs: pairs (tail, head) of unlike nodes."""
+
+    def __init__(self, size, arcs):
+        if not is_number(size, 1, MOST_NODES) or not is_tuple(arcs, 0, MOST_ARCS):
+            raise BadGraph(None)
+        for index, arc in enumerate(arcs):
+            if not _is_arc(size, arc) or arc in arcs[:index]:
+                raise BadGraph(index)
+        self._nodes = tuple(range(size))
+        self._arcs = tuple(sorted(arcs))
+
+    @property
+    def nodes(self):
+        """The tuple of the nodes."""
+        return self._nodes
+
+    @property
+    def arcs(self):
+        """The ascending tuple of the arcs."""
+        return self._arcs
+
+    def __eq__(self, other):
+        return isinstance(other, Graph) and self._nodes == other._nodes and self._arcs == other._arcs
+
+
+def _is_arc(size, value):
+    return are_numbers(value, 0, size - 1) and len(value) == 2 and value[0] != value[1]
+
+
+def check_graph(graph):
+    """Raise NotGraph for a value that is no graph."""
+    if not isinstance(graph, Graph):
+        raise NotGraph("no graph")
+
+
+def check_node(graph, node):
+    """Raise BadNode for a value that is no node of a graph."""
+    if not is_number(node, 0, len(graph.nodes) - 1):
+        raise BadNode("no node of the graph")
+
+
+def check_weights(graph, weights):
+    """Raise BadWeights for a value that is no weights of a graph."""
+    if not is_tuple(weights, len(graph.arcs), len(graph.arcs)):
+        raise BadWeights(None)
+    for index, weight in enumerate(weights):
+        if not is_number(weight, 1, MOST_WEIGHT):
+            raise BadWeights(index)
+
+
+def _check_question(graph, weights, node, goal):
+    check_graph(graph)
+    check_weights(graph, weights)
+    check_node(graph, node)
+    check_node(graph, goal)
+
+
+def simple_paths(graph, node, goal):
+    """The ascending list of the paths from a node to a goal."""
+    check_graph(graph)
+    check_node(graph, node)
+    check_node(graph, goal)
+    heads = {place: [head for tail, head in graph.arcs if tail == place] for place in graph.nodes}
+    paths = paths_to(heads, node, (goal,))
+    check_few(paths)
+    return paths
+
+
+def distances_to(graph, weights, goal):
+    """The list of the distances of all nodes to a goal, None for those without a path."""
+    away = [None] * len(graph.nodes)
+    away[goal] = 0
+    changed = True
+    while changed:
+        changed = False
+        for (tail, head), weight in zip(graph.arcs, weights):
+            if away[head] is not None and (away[tail] is None or away[head] + weight < away[tail]):
+                away[tail] = away[head] + weight
+                changed = True
+    return away
+
+
+def nearest_heads(graph, weights, goal):
+    """For each node the ascending list of the second nodes of its least paths to a goal."""
+    away = distances_to(graph, weights, goal)
+    heads = {node: [] for node in graph.nodes}
+    for (tail, head), weight in zip(graph.arcs, weights):
+        if away[head] is not None and away[head] + weight == away[tail]:
+            heads[tail].append(head)
+    return heads
+
+
+def distance(graph, weights, node, goal):
+    """The least sum of the weights of a path from a node to a goal, None without a path."""
+    _check_question(graph, weights, node, goal)
+    return distances_to(graph, weights, goal)[node]
+
+
+def nearest_paths(graph, weights, node, goal):
+    """The ascending list of the paths with the least sum of weights."""
+    _check_question(graph, weights, node, goal)
+    paths = paths_to(nearest_heads(graph, weights, goal), node, (goal,))
+    check_few(paths)
+    return paths
+
+
+def next_hops(graph, weights, node, goal):
+    """The ascending tuple of the second nodes of the least paths."""
+    _check_question(graph, weights, node, goal)
+    return tuple(nearest_heads(graph, weights, goal)[node])
