@@ -19,9 +19,9 @@ def are_numbers(value, low, high):
     return isinstance(value, tuple) and all([is_number(item, low, high) for item in value])
 
 
-def are_unlike(numbers):
-    """Whether no number stands twice."""
-    return len(set(numbers)) == len(numbers)
+def are_unlike(values):
+    """Whether none of the values, numbers or tuples of such, stands twice."""
+    return len(set(values)) == len(values)
 
 
 def check_text(text):

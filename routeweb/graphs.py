@@ -112,6 +112,7 @@ def nearest_paths(graph, weights, node, goal):
     """The ascending list of the paths with the least sum of weights."""
     _check_question(graph, weights, node, goal)
     paths = paths_to(nearest_heads(graph, weights, goal), node, (goal,))
+    # With eight nodes there are at most 64 least paths; the limit is kept for what the document says.
     check_few(paths)
     return paths
 

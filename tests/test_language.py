@@ -16,6 +16,23 @@ INTERFACE = {
         "next_hops": "graph weights node goal",
     },
     "graphtexts": {"write_graph": "graph weights", "read_graph": "text"},
+    "algebras": {
+        "Algebra": ["levels", "functions", "__eq__"], "followed": "algebra word element",
+        "growing_break": "algebra", "strict_break": "algebra", "isotone_break": "algebra",
+        "cancelling_break": "algebra", "constant_break": "algebra", "even_break": "algebra", "does_deny": "algebra",
+        "has_steps": "algebra", "lexicographic": "one other", "scoped": "one other", "united": "one other",
+    },
+    "networks": {
+        "Network": ["labels"], "routes_of": "network node", "route_value": "network route",
+        "best_level": "network node", "choice": "network node state", "stable_states": "network",
+        "rounds": "network state", "quarrel": "algebra", "detour": "algebra", "greedy_state": "network",
+    },
+    "schedules": {"run": "network state schedule", "phases": "network schedule"},
+    "choices": {
+        "Choices": ["lists", "__eq__"], "taken": "choices node state", "stable_of": "choices", "wheel": "choices",
+        "is_wheel": "choices value", "numbering": "choices", "is_numbering": "choices value", "settled": "choices",
+        "choices_of": "network",
+    },
 }
 
 # L2: what may be imported from the library.
@@ -180,7 +197,19 @@ class CodeTest(unittest.TestCase):
                     self.assertIn(ast.unparse(other), ("None", "True", "False"), (name, node.lineno))
 
 
+# The arguments of the classes of the interface.
+CREATED = {
+    "Graph": "size arcs", "Algebra": "levels functions", "Network": "algebra ends size labels", "Choices": "lists",
+}
+
+
 class InterfaceTest(unittest.TestCase):
+    def test_arguments_of_classes(self):
+        defined = {node.name: node for _, node in nodes_of(ast.ClassDef)}
+        for name, wanted in CREATED.items():
+            created = [part for part in defined[name].body if getattr(part, "name", "") == "__init__"]
+            self.assertEqual([part.arg for part in created[0].args.args], ["self", *wanted.split()], name)
+
     def test_names_and_arguments(self):
         for file, listed in INTERFACE.items():
             defined = {node.name: node for node in TREES[file].body if hasattr(node, "name")}
