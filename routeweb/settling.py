@@ -49,7 +49,8 @@ def _may_stay(places, roots, fixed):
     for node in fixed:
         own = places[node]
         place = len(own) if fixed[node] is None else own[fixed[node]]
-        offered = [own[(node, *path)] for path in known if (node, *path) in own]
+        longer = [(node, *path) for path in known]
+        offered = [own[path] for path in longer if path in own]
         if min(offered, default=place) < place:
             return False
     return True

@@ -154,6 +154,12 @@ class CodeTest(unittest.TestCase):
         for name, node in nodes_of(EXPRESSIONS_NOT_USED):
             self.fail((name, node))
 
+    def test_no_stars_in_indexes(self):
+        # L7: neither where an item or a slice is read, nor where it is a target.
+        for name, node in nodes_of(ast.Subscript):
+            starred = [part for part in ast.walk(node.slice) if isinstance(part, ast.Starred)]
+            self.assertEqual(starred, [], (name, node.lineno))
+
     def test_decorators(self):
         for name, node in nodes_of((ast.FunctionDef, ast.ClassDef)):
             self.assertIn([ast.unparse(item) for item in node.decorator_list], ([], ["property"]), (name, node.name))
