@@ -19,7 +19,7 @@ class Choices:
             if not is_tuple(paths, 0, MOST_PATHS):
                 raise BadChoices(node, None)
             for index, path in enumerate(paths):
-                if not _is_path(len(lists), node, path) or path in paths[:index]:
+                if not is_path(len(lists), node, path) or path in paths[:index]:
                     raise BadChoices(node, index)
         self._lists = lists
 
@@ -32,7 +32,8 @@ class Choices:
         return isinstance(other, Choices) and self._lists == other._lists
 
 
-def _is_path(many, node, value):
+def is_path(many, node, value):
+    """Whether a value is a path of a node to node 0, of nodes up to so many."""
     if not are_numbers(value, 0, many) or len(value) < 2:
         return False
     return value[0] == node and value[-1] == 0 and are_unlike(value)
@@ -65,6 +66,11 @@ def taken(choices, node, state):
     if not is_number(node, 1, len(choices.lists)):
         raise BadNode("no node that takes a path")
     check_state(choices, state)
+    return taken_in(choices, node, state)
+
+
+def taken_in(choices, node, state):
+    """What a node takes in a state; the arguments are checked already."""
     for path in choices.lists[node - 1]:
         if path[1] == 0 or state[path[1] - 1] == path[1:]:
             return path

@@ -1,6 +1,16 @@
 """Lines of words, read one word after another."""
 
-from routeweb.errors import InvalidText
+from routeweb.checks import check_text
+from routeweb.errors import InvalidText, TooMany
+
+
+def lines_of(text, most):
+    """The list of the lines of a text of at most so many, none for the empty text."""
+    check_text(text)
+    lines = text.split("\n") if text != "" else []
+    if len(lines) > most:
+        raise TooMany(most)
+    return lines
 
 
 class LineReader:
@@ -15,12 +25,20 @@ class LineReader:
     def take(self, wanted):
         """Which of the wanted words and numbers the next word is; it is read then."""
         for value in wanted:
-            if self._at < len(self._words) and self._words[self._at] == str(value):
+            if not self.is_done() and self.next_word() == str(value):
                 self._at += 1
                 return value
         raise InvalidText(self._line, self._at + 1)
 
+    def is_done(self):
+        """Whether all words are read."""
+        return self._at == len(self._words)
+
+    def next_word(self):
+        """The word that is to be read next, where there is one."""
+        return self._words[self._at]
+
     def finish(self):
         """Raise InvalidText if there is a further word."""
-        if self._at < len(self._words):
+        if not self.is_done():
             raise InvalidText(self._line, self._at + 1)

@@ -33,6 +33,17 @@ INTERFACE = {
         "is_wheel": "choices value", "numbering": "choices", "is_numbering": "choices value", "settled": "choices",
         "choices_of": "network",
     },
+    "choicetexts": {"write_choices": "choices", "read_choices": "text"},
+    "storms": {"states_from": "choices state", "storm": "choices state", "is_storm": "choices state value"},
+    "trades": {
+        "Trade": [], "is_paid": "trade path", "paid_paths": "trade node", "ring_of_customers": "trade",
+        "trade_choices": "trade",
+    },
+    "spares": {
+        "is_spare": "graph weights node neighbor goal", "is_node_spare": "graph weights node neighbor lost goal",
+        "spares": "graph weights node goal", "remote_spares": "graph weights node neighbor goal",
+        "distance_without": "graph weights one other node goal", "by_two": "graph weights one other node goal",
+    },
 }
 
 # L2: what may be imported from the library.
@@ -206,6 +217,7 @@ class CodeTest(unittest.TestCase):
 # The arguments of the classes of the interface.
 CREATED = {
     "Graph": "size arcs", "Algebra": "levels functions", "Network": "algebra ends size labels", "Choices": "lists",
+    "Trade": "size customers peers",
 }
 
 
