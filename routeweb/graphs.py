@@ -72,10 +72,15 @@ def simple_paths(graph, node, goal):
     check_graph(graph)
     check_node(graph, node)
     check_node(graph, goal)
-    heads = {place: [head for tail, head in graph.arcs if tail == place] for place in graph.nodes}
-    paths = paths_to(heads, node, (goal,))
+    paths = all_paths(graph, node, goal)
     check_few(paths)
     return paths
+
+
+def all_paths(graph, node, goal):
+    """The ascending list of the paths from a node to a goal, however many there are."""
+    heads = {place: [head for tail, head in graph.arcs if tail == place] for place in graph.nodes}
+    return paths_to(heads, node, (goal,))
 
 
 def distances_to(graph, weights, goal):

@@ -44,6 +44,23 @@ INTERFACE = {
         "spares": "graph weights node goal", "remote_spares": "graph weights node neighbor goal",
         "distance_without": "graph weights one other node goal", "by_two": "graph weights one other node goal",
     },
+    "updates": {
+        "ring_of_round": "old new done now", "depth_rounds": "old new", "least_rounds": "old new",
+        "bypass_of_round": "old new done now start guard", "guarded_rounds": "old new start guard",
+    },
+    "tables": {
+        "lookup": "width rules address", "first_gap": "width one other", "blocks": "width rules",
+        "least_rules": "width rules", "walk": "width tables node address", "first_ring": "width tables",
+        "reach": "width tables node goal", "atoms": "width tables",
+    },
+    "policies": {
+        "Policy": ["apply"], "write_policy": "policy", "first_unlike": "one other", "idle_clauses": "policy",
+        "joined": "one other", "algebra_of": "policies", "record_of": "number",
+    },
+    "fronts": {
+        "front": "graph costs node goal", "front_path": "graph costs node goal pair",
+        "least_within": "graph costs node goal bound",
+    },
 }
 
 # L2: what may be imported from the library.
@@ -84,6 +101,17 @@ def nodes_of(kind):
         for node in ast.walk(tree):
             if isinstance(node, kind):
                 yield name, node
+
+
+# L23: what may be given a zip, an enumerate and the like.
+ITERATING = ["list", "tuple", "dict", "sorted", "sum", "any", "all", "enumerate", "zip", "min", "max"]
+
+
+def calls_with_parents():
+    for name, parent in nodes_of(ast.AST):
+        for node in ast.iter_child_nodes(parent):
+            if isinstance(node, ast.Call):
+                yield name, node, parent
 
 
 def bound_names(tree):
@@ -171,6 +199,34 @@ class CodeTest(unittest.TestCase):
             starred = [part for part in ast.walk(node.slice) if isinstance(part, ast.Starred)]
             self.assertEqual(starred, [], (name, node.lineno))
 
+    def test_iterated_at_once(self):
+        # L23: a range may also be kept by a name, tested with in, and given to len.
+        for name, node, parent in calls_with_parents():
+            called = getattr(node.func, "id", getattr(node.func, "attr", None))
+            if called not in ("zip", "enumerate", "reversed", "range", "items", "keys", "values"):
+                continue
+            takers = [*ITERATING, "len"] if called == "range" else ITERATING
+            by_loop = isinstance(parent, (ast.For, ast.comprehension)) and parent.iter is node
+            by_call = isinstance(parent, ast.Call) and getattr(parent.func, "id", None) in takers
+            kept = called == "range" and isinstance(parent, ast.Assign)
+            self.assertTrue(by_loop or by_call or kept, (name, node.lineno))
+
+    def test_sets(self):
+        # L24: the package stores no set, and does not iterate over one.
+        for name, node, parent in calls_with_parents():
+            if getattr(node.func, "id", None) == "set":
+                by_call = isinstance(parent, ast.Call) and getattr(parent.func, "id", None) in ("sorted", "len")
+                self.assertTrue(by_call, (name, node.lineno))
+        for name, node in nodes_of(ast.SetComp):
+            self.fail((name, node.lineno))
+
+    def test_library_calls(self):
+        # L2: what combines rows is iterated by a loop or a comprehension, without keywords.
+        for name, node, parent in calls_with_parents():
+            if getattr(node.func, "id", None) in LIBRARY["itertools"]:
+                self.assertIsInstance(parent, (ast.For, ast.comprehension), (name, node.lineno))
+                self.assertEqual(node.keywords, [], (name, node.lineno))
+
     def test_decorators(self):
         for name, node in nodes_of((ast.FunctionDef, ast.ClassDef)):
             self.assertIn([ast.unparse(item) for item in node.decorator_list], ([], ["property"]), (name, node.name))
@@ -217,7 +273,7 @@ class CodeTest(unittest.TestCase):
 # The arguments of the classes of the interface.
 CREATED = {
     "Graph": "size arcs", "Algebra": "levels functions", "Network": "algebra ends size labels", "Choices": "lists",
-    "Trade": "size customers peers",
+    "Trade": "size customers peers", "Policy": "text",
 }
 
 
