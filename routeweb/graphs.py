@@ -1,7 +1,7 @@
 """Graphs of up to eight nodes, their paths, and the least of these by weights."""
 
 from routeweb.checks import are_numbers, is_number, is_tuple
-from routeweb.errors import BadGraph, BadNode, BadWeights, NotGraph
+from routeweb.errors import BadGraph, BadNode, BadWeights, NoLink, NotGraph
 from routeweb.walks import check_few, paths_to
 
 MOST_NODES = 8
@@ -60,11 +60,23 @@ def check_weights(graph, weights):
             raise BadWeights(index)
 
 
-def _check_question(graph, weights, node, goal):
+def check_weighted(graph, weights, nodes):
+    """Raise the error of the first value that is no graph, no weights of it, or none of its nodes."""
     check_graph(graph)
     check_weights(graph, weights)
+    for node in nodes:
+        check_node(graph, node)
+
+
+def check_link(graph, arcs, node, neighbor):
+    """Raise BadNode for a value that is no node of a graph, NoLink if there is no arc from the node to the neighbor.
+
+    The arcs are those of the graph, or those that are left of them.
+    """
     check_node(graph, node)
-    check_node(graph, goal)
+    check_node(graph, neighbor)
+    if (node, neighbor) not in arcs:
+        raise NoLink("no arc leads from the node to the neighbor")
 
 
 def simple_paths(graph, node, goal):
@@ -109,13 +121,13 @@ def nearest_heads(graph, weights, goal):
 
 def distance(graph, weights, node, goal):
     """The least sum of the weights of a path from a node to a goal, None without a path."""
-    _check_question(graph, weights, node, goal)
+    check_weighted(graph, weights, (node, goal))
     return distances_to(graph, weights, goal)[node]
 
 
 def nearest_paths(graph, weights, node, goal):
     """The ascending list of the paths with the least sum of weights."""
-    _check_question(graph, weights, node, goal)
+    check_weighted(graph, weights, (node, goal))
     paths = paths_to(nearest_heads(graph, weights, goal), node, (goal,))
     # With eight nodes there are at most 64 least paths; the limit is kept for what the document says.
     check_few(paths)
@@ -124,5 +136,5 @@ def nearest_paths(graph, weights, node, goal):
 
 def next_hops(graph, weights, node, goal):
     """The ascending tuple of the second nodes of the least paths."""
-    _check_question(graph, weights, node, goal)
+    check_weighted(graph, weights, (node, goal))
     return tuple(nearest_heads(graph, weights, goal)[node])

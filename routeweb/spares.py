@@ -1,26 +1,17 @@
 """Spare ways for a node that loses a neighbor or an arc."""
 
 from routeweb.errors import BadNode
-from routeweb.graphs import (
-    Graph, check_graph, check_node, check_weights, distance, distances_to, nearest_paths, next_hops,
-)
-
-
-def _check(graph, weights, nodes):
-    check_graph(graph)
-    check_weights(graph, weights)
-    for node in nodes:
-        check_node(graph, node)
+from routeweb.graphs import Graph, check_node, check_weighted, distance, distances_to, nearest_paths, next_hops
 
 
 def _check_goal(graph, weights, node, goal):
-    _check(graph, weights, (node, goal))
+    check_weighted(graph, weights, (node, goal))
     if goal == node:
         raise BadNode("the goal is the node itself")
 
 
 def _check_ends(graph, weights, node, neighbor, goal):
-    _check(graph, weights, (node, neighbor))
+    check_weighted(graph, weights, (node, neighbor))
     if (node, neighbor) not in graph.arcs:
         raise BadNode("no arc leads from the node to the neighbor")
     _check_goal(graph, weights, node, goal)
@@ -77,7 +68,7 @@ def _weights_without(graph, weights, lost):
 
 def distance_without(graph, weights, one, other, node, goal):
     """The distance in the graph without the arcs between two nodes, None without a path."""
-    _check(graph, weights, (one, other, node, goal))
+    check_weighted(graph, weights, (one, other, node, goal))
     weight_of = _weights_without(graph, weights, ((one, other), (other, one)))
     smaller = Graph(len(graph.nodes), tuple(weight_of))
     return distances_to(smaller, list(weight_of.values()), goal)[node]

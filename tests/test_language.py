@@ -11,32 +11,32 @@ TREES = {path.stem: ast.parse(path.read_text("ascii")) for path in FILES}
 
 INTERFACE = {
     "graphs": {
-        "Graph": ["nodes", "arcs", "__eq__"], "simple_paths": "graph node goal",
+        "Graph": {"nodes": "", "arcs": "", "__eq__": "other"}, "simple_paths": "graph node goal",
         "distance": "graph weights node goal", "nearest_paths": "graph weights node goal",
         "next_hops": "graph weights node goal",
     },
     "graphtexts": {"write_graph": "graph weights", "read_graph": "text"},
     "algebras": {
-        "Algebra": ["levels", "functions", "__eq__"], "followed": "algebra word element",
+        "Algebra": {"levels": "", "functions": "", "__eq__": "other"}, "followed": "algebra word element",
         "growing_break": "algebra", "strict_break": "algebra", "isotone_break": "algebra",
         "cancelling_break": "algebra", "constant_break": "algebra", "even_break": "algebra", "does_deny": "algebra",
         "has_steps": "algebra", "lexicographic": "one other", "scoped": "one other", "united": "one other",
     },
     "networks": {
-        "Network": ["labels"], "routes_of": "network node", "route_value": "network route",
+        "Network": {"labels": ""}, "routes_of": "network node", "route_value": "network route",
         "best_level": "network node", "choice": "network node state", "stable_states": "network",
         "rounds": "network state", "quarrel": "algebra", "detour": "algebra", "greedy_state": "network",
     },
     "schedules": {"run": "network state schedule", "phases": "network schedule"},
     "choices": {
-        "Choices": ["lists", "__eq__"], "taken": "choices node state", "stable_of": "choices", "wheel": "choices",
+        "Choices": {"lists": "", "__eq__": "other"}, "taken": "choices node state", "stable_of": "choices", "wheel": "choices",
         "is_wheel": "choices value", "numbering": "choices", "is_numbering": "choices value", "settled": "choices",
         "choices_of": "network",
     },
     "choicetexts": {"write_choices": "choices", "read_choices": "text"},
     "storms": {"states_from": "choices state", "storm": "choices state", "is_storm": "choices state value"},
     "trades": {
-        "Trade": [], "is_paid": "trade path", "paid_paths": "trade node", "ring_of_customers": "trade",
+        "Trade": {}, "is_paid": "trade path", "paid_paths": "trade node", "ring_of_customers": "trade",
         "trade_choices": "trade",
     },
     "spares": {
@@ -54,12 +54,27 @@ INTERFACE = {
         "reach": "width tables node goal", "atoms": "width tables",
     },
     "policies": {
-        "Policy": ["apply"], "write_policy": "policy", "first_unlike": "one other", "idle_clauses": "policy",
+        "Policy": {"apply": "record"}, "write_policy": "policy", "first_unlike": "one other", "idle_clauses": "policy",
         "joined": "one other", "algebra_of": "policies", "record_of": "number",
     },
     "fronts": {
         "front": "graph costs node goal", "front_path": "graph costs node goal pair",
         "least_within": "graph costs node goal bound",
+    },
+    "reports": {
+        "Reports": {
+            "renew": "", "tell": "node neighbor", "choose": "node", "fail": "node neighbor",
+            "weigh": "node neighbor weight", "route": "node", "limit": "node", "walk": "node",
+        },
+    },
+    "stacks": {
+        "run": "rules node stack numbers", "drains": "rules node label", "drain_run": "rules node stack end",
+        "visit_run": "rules node stack goal", "ring_run": "rules node stack",
+    },
+    "segments": {"led": "graph weights node segments", "least_segments": "graph weights path"},
+    "shares": {
+        "shares": "graph weights node goal", "shares_at": "graph weights node goal place",
+        "loads": "graph weights demands",
     },
 }
 
@@ -273,7 +288,7 @@ class CodeTest(unittest.TestCase):
 # The arguments of the classes of the interface.
 CREATED = {
     "Graph": "size arcs", "Algebra": "levels functions", "Network": "algebra ends size labels", "Choices": "lists",
-    "Trade": "size customers peers", "Policy": "text",
+    "Trade": "size customers peers", "Policy": "text", "Reports": "graph weights",
 }
 
 
@@ -292,8 +307,11 @@ class InterfaceTest(unittest.TestCase):
                 if isinstance(wanted, str):
                     self.assertEqual([part.arg for part in defined[name].args.args], wanted.split(), name)
                 else:
-                    methods = [part.name for part in defined[name].body if hasattr(part, "name")]
-                    self.assertEqual([part for part in wanted if part not in methods], [], name)
+                    methods = {part.name: part for part in defined[name].body if hasattr(part, "name")}
+                    for method, arguments in wanted.items():
+                        self.assertIn(method, methods, name)
+                        found = [part.arg for part in methods[method].args.args]
+                        self.assertEqual(found, ["self", *arguments.split()], (name, method))
 
 
 if __name__ == "__main__":
