@@ -1,7 +1,7 @@
 """Texts of choices."""
 
 from routeweb.choices import MOST_LISTS, MOST_PATHS, Choices, check_choices, is_path
-from routeweb.words import LineReader, lines_of
+from routeweb.words import LineReader, few_lines_of
 
 # The nodes of choices are 0 to 7, so that each is one digit.
 NODE_OF = {"0": 0, "1": 1, "2": 2, "3": 3, "4": 4, "5": 5, "6": 6, "7": 7}
@@ -22,7 +22,7 @@ def _written(path):
 
 def read_choices(text):
     """The choices of a text."""
-    lines = lines_of(text, MOST_LISTS)
+    lines = few_lines_of(text, MOST_LISTS)
     return Choices(tuple([_read_paths(line, node, len(lines)) for node, line in enumerate(lines, start=1)]))
 
 

@@ -39,6 +39,12 @@ def _is_arc(size, value):
     return are_numbers(value, 0, size - 1) and len(value) == 2 and value[0] != value[1]
 
 
+def graph_of(size, weight_of):
+    """The pair (graph, weights) of so many nodes and a dict of the weights by the arcs."""
+    arcs = tuple(sorted(list(weight_of)))
+    return Graph(size, arcs), tuple([weight_of[arc] for arc in arcs])
+
+
 def check_graph(graph):
     """Raise NotGraph for a value that is no graph."""
     if not isinstance(graph, Graph):

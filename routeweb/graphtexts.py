@@ -1,7 +1,7 @@
 """Texts of graphs with weights."""
 
 from routeweb.checks import check_text
-from routeweb.graphs import MOST_NODES, MOST_WEIGHT, Graph, check_graph, check_weights
+from routeweb.graphs import MOST_NODES, MOST_WEIGHT, check_graph, check_weights, graph_of
 from routeweb.words import LineReader
 
 
@@ -24,8 +24,7 @@ def read_graph(text):
     for index in range(1, len(lines)):
         arc, weight = _read_arc(LineReader(index + 1, lines[index]), size, weight_of)
         weight_of[arc] = weight
-    arcs = tuple(sorted(weight_of))
-    return Graph(size, arcs), tuple([weight_of[arc] for arc in arcs])
+    return graph_of(size, weight_of)
 
 
 def _read_size(text):

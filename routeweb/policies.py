@@ -3,7 +3,7 @@
 from routeweb.algebras import Algebra
 from routeweb.checks import is_number, is_tuple
 from routeweb.errors import BadRecord, NotPolicy
-from routeweb.words import LineReader, lines_of
+from routeweb.words import LineReader, few_lines_of
 
 MOST_LINES = 200
 MOST_POLICIES = 64
@@ -20,7 +20,7 @@ class Policy:
     """Clauses: pairs of a tuple of conditions and one of actions, which are pairs of a word and a tag or number."""
 
     def __init__(self, text):
-        lines = lines_of(text, MOST_LINES)
+        lines = few_lines_of(text, MOST_LINES)
         self.clauses = tuple([_read_clause(LineReader(index, line)) for index, line in enumerate(lines, start=1)])
 
     def apply(self, record):

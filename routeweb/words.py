@@ -4,10 +4,15 @@ from routeweb.checks import check_text
 from routeweb.errors import InvalidText, TooMany
 
 
-def lines_of(text, most):
-    """The list of the lines of a text of at most so many, none for the empty text."""
+def lines_of(text):
+    """The list of the lines of a text, none for the empty text."""
     check_text(text)
-    lines = text.split("\n") if text != "" else []
+    return text.split("\n") if text != "" else []
+
+
+def few_lines_of(text, most):
+    """The list of the lines of a text of at most so many."""
+    lines = lines_of(text)
     if len(lines) > most:
         raise TooMany(most)
     return lines

@@ -342,7 +342,8 @@ class NumberingTest(Raises, unittest.TestCase):
     def test_values_that_are_none(self):
         order = self.ORDER
         wrong = [order[1:], order[:-1], (*order, order[0]), (*order[:-1], order[0]), list(order), (*order[:-1], None)]
-        wrong += [(*order[:-1], item) for item in ((3, (3, 0)), (4, (4, 0)), (3,), (3, (3, 2, 1, 0), ()), (2, (3, 2, 0)))]
+        last = ((3, (3, 0)), (4, (4, 0)), (3,), (3, (3, 2, 1, 0), ()), (2, (3, 2, 0)))
+        wrong += [(*order[:-1], item) for item in last]
         wrong += [((1, [1, 0]), *order[1:]), ([1, (1, 0)], *order[1:]), ((0, (0,)), *order[1:])]
         for value in NO_INTEGERS:
             wrong += [((value, (1, 0)), *order[1:]), ((1, (value, 0)), *order[1:]), ((1, (1, value)), *order[1:])]

@@ -29,9 +29,9 @@ INTERFACE = {
     },
     "schedules": {"run": "network state schedule", "phases": "network schedule"},
     "choices": {
-        "Choices": {"lists": "", "__eq__": "other"}, "taken": "choices node state", "stable_of": "choices", "wheel": "choices",
-        "is_wheel": "choices value", "numbering": "choices", "is_numbering": "choices value", "settled": "choices",
-        "choices_of": "network",
+        "Choices": {"lists": "", "__eq__": "other"}, "taken": "choices node state", "stable_of": "choices",
+        "wheel": "choices", "is_wheel": "choices value", "numbering": "choices", "is_numbering": "choices value",
+        "settled": "choices", "choices_of": "network",
     },
     "choicetexts": {"write_choices": "choices", "read_choices": "text"},
     "storms": {"states_from": "choices state", "storm": "choices state", "is_storm": "choices state value"},
@@ -76,6 +76,18 @@ INTERFACE = {
         "shares": "graph weights node goal", "shares_at": "graph weights node goal place",
         "loads": "graph weights demands",
     },
+    "bridges": {
+        "Bridges": {"belief": "bridge", "tell": "bridge neighbor", "is_quiet": "", "tree": ""},
+        "least_tree": "graph weights",
+    },
+    "floods": {
+        "Flood": {"state": "node arcs", "tell": "node neighbor", "records": "node", "view": "node", "is_known": ""},
+    },
+    "disjoint": {
+        "disjoint_paths": "graph node goal", "least_disjoint": "graph weights node goal many",
+        "nearest_many": "graph weights node goal many",
+    },
+    "labs": {"Lab": {"run": "line", "undo": "", "redo": "", "current": "", "steps": ""}, "replayed": "text"},
 }
 
 # L2: what may be imported from the library.
@@ -242,6 +254,14 @@ class CodeTest(unittest.TestCase):
                 self.assertIsInstance(parent, (ast.For, ast.comprehension), (name, node.lineno))
                 self.assertEqual(node.keywords, [], (name, node.lineno))
 
+    def test_library_names(self):
+        # L2: they are only called, with all arguments by position, and not kept or passed on.
+        names = [part for parts in LIBRARY.values() for part in parts]
+        called = [node.func for _, node in nodes_of(ast.Call) if not node.keywords]
+        for name, node in nodes_of(ast.Name):
+            if node.id in names:
+                self.assertIn(node, called, (name, node.lineno))
+
     def test_decorators(self):
         for name, node in nodes_of((ast.FunctionDef, ast.ClassDef)):
             self.assertIn([ast.unparse(item) for item in node.decorator_list], ([], ["property"]), (name, node.name))
@@ -289,6 +309,7 @@ class CodeTest(unittest.TestCase):
 CREATED = {
     "Graph": "size arcs", "Algebra": "levels functions", "Network": "algebra ends size labels", "Choices": "lists",
     "Trade": "size customers peers", "Policy": "text", "Reports": "graph weights",
+    "Bridges": "graph weights", "Flood": "size", "Lab": "",
 }
 
 

@@ -390,6 +390,7 @@ class ErrorsTest(Raises, unittest.TestCase):
                 self.assert_error(BadNode, call, value)
             for call in (run.tell, run.fail):
                 self.assert_error(BadNode, call, value, None)
+                self.assert_error(BadNode, call, value, 0)
                 self.assert_error(BadNode, call, 1, value)
             self.assert_error(BadNode, run.weigh, value, None, None)
             self.assert_error(BadNode, run.weigh, 1, value, None)

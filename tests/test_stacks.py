@@ -159,6 +159,8 @@ class RunTest(Raises, unittest.TestCase):
             self.assert_error(BadRun, run, RULES, 0, (0,), (value,), index=0)
             self.assert_error(BadRun, run, RULES, 0, (0,), (0, 1, value, None), index=2)
         self.assert_error(BadRun, run, (), 0, (0,), (0,), index=0)
+        # Counted from behind, this would be a rule that applies.
+        self.assert_error(BadRun, run, RULES[:1], 0, (0,), (-1,), index=0)
 
     def test_rule_that_does_not_apply(self):
         # Another label, another node, the label below, no label.
